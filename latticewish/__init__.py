@@ -1,0 +1,1 @@
+"""Formulas with fixed points over any finite distributive lattice of truth values."""

@@ -1,0 +1,63 @@
+"""The interface of stage 1, and what can be counted of the rules for the files of the package."""
+
+import ast
+import unittest
+from pathlib import Path
+
+from latticewish import errors, families, lattices
+
+METHODS = ("within_at", "join_at", "meet_at", "name_at", "at_name", "irreducibles")
+PACKAGE = Path(lattices.__file__).parent
+MADE = (
+    (lattices, "OrderLattice", (["a"], [])), (families, "ChainLattice", (1,)),
+    (families, "SetLattice", (1,)), (families, "DownLattice", (["a"], [])))
+
+
+class TestInterface(unittest.TestCase):
+    def test_each_class_has_its_own_methods(self):
+        for module, word, _ in MADE + ((lattices, "Lattice", ()),):
+            for method in METHODS:
+                self.assertIn(method, vars(getattr(module, word)), word)
+
+    def test_each_class_stands_in_its_file(self):
+        for module, word, _ in MADE + ((lattices, "Lattice", ()),):
+            self.assertEqual(getattr(module, word).__module__, module.__name__)
+        for word in ("LatticeError", "NameMissing", "BadLattice", "UnknownValue"):
+            self.assertEqual(getattr(errors, word).__module__, errors.__name__)
+
+    def test_attributes_are_set_at_once(self):
+        for module, word, told in MADE:
+            made = getattr(module, word)(*told)
+            self.assertIsInstance(made, lattices.Lattice)
+            for attribute in ("label", "size", "bottom_at", "top_at"):
+                self.assertIn(attribute, vars(made), word)
+
+
+class TestFiles(unittest.TestCase):
+    def test_sizes_and_characters(self):
+        for path in PACKAGE.glob("*.py"):
+            text = path.read_text()
+            self.assertTrue(text.isascii() and "\t" not in text, path.name)
+            self.assertLessEqual(len(text.splitlines()), 399, path.name)
+            self.assertLessEqual(max(len(line) for line in text.splitlines()), 120, path.name)
+
+    def test_lengths_of_functions(self):
+        for path in PACKAGE.glob("*.py"):
+            for node in ast.walk(ast.parse(path.read_text())):
+                if isinstance(node, ast.FunctionDef):
+                    self.assertLessEqual(node.end_lineno - node.lineno + 1, 40, (path.name, node.name))
+
+    def test_imports(self):
+        for path in PACKAGE.glob("*.py"):
+            for node in ast.walk(ast.parse(path.read_text())):
+                self.assertNotIsInstance(node, ast.Import)
+                if isinstance(node, ast.ImportFrom):
+                    self.assertTrue(node.module.startswith("latticewish."), path.name)
+
+    def test_nothing_but_python_files(self):
+        for path in PACKAGE.iterdir():
+            self.assertTrue(path.suffix == ".py" or path.name == "__pycache__", path.name)
+
+
+if __name__ == "__main__":
+    unittest.main()
