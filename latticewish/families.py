@@ -1,10 +1,9 @@
 """Lattices of one family each: chains, the sets of some marks, the downward closed sets of names."""
 
 from latticewish.errors import BadLattice
-from latticewish.lattices import Lattice
+from latticewish.lattices import MOST_VALUES, Lattice
 from latticewish.orders import check_order, has_place, masks_below, order_label, place_of
 
-_MOST_VALUES = 64
 # Six marks or names already make up to 64 sets.
 _MOST_MARKS = 6
 
@@ -13,7 +12,7 @@ class ChainLattice(Lattice):
     """The integers from 0 to count - 1, each within all that are not less."""
 
     def __init__(self, count):
-        _check_count(count, _MOST_VALUES)
+        _check_count(count, MOST_VALUES)
         self._names = [str(place) for place in range(count)]
         Lattice.__init__(self, f"(chain {count})", count, 0, count - 1)
 

@@ -2,17 +2,20 @@
 
 from latticewish.orders import check_order, has_place, masks_above, masks_below, order_label, place_of
 
+# For lattices of one family and for those made of lattices.
+MOST_VALUES = 64
 _MOST_NAMES = 16
 
 
 class Lattice:
     """What every lattice can be asked. Only the classes below it, which know their order, are made."""
 
-    def __init__(self, label, size, bottom_at, top_at):
+    def __init__(self, label, size, bottom_at, top_at, depth=1):
         self.label = label
         self.size = size
         self.bottom_at = bottom_at
         self.top_at = top_at
+        self.depth = depth
 
     def within_at(self, first, second):
         """Whether the value at place first lies within the one at place second."""
@@ -52,6 +55,7 @@ class OrderLattice(Lattice):
         bottom_at = _first_place(self._above, everything)
         top_at = _first_place(self._below, everything)
         Lattice.__init__(self, label, len(names), bottom_at, top_at)
+        self._irreducibles = irreducible_places(self)
 
     def within_at(self, first, second):
         """Whether the value at place first lies within the one at place second."""
@@ -76,11 +80,18 @@ class OrderLattice(Lattice):
 
     def irreducibles(self):
         """The ascending list of the places that are neither the bottom's nor that of a join of two others."""
-        return [place for place in range(self.size) if place != self.bottom_at and not self._is_joined(place)]
+        return list(self._irreducibles)
 
-    def _is_joined(self, place):
-        others = [other for other in range(self.size) if other != place]
-        return any([self.join_at(first, second) == place for first in others for second in others])
+
+def irreducible_places(lattice):
+    """The irreducible values by their definition, for lattices that may be anything but regular."""
+    joined = [False] * lattice.size
+    for first in range(lattice.size):
+        for second in range(first, lattice.size):
+            place = lattice.join_at(first, second)
+            if place not in (None, first, second):
+                joined[place] = True
+    return [place for place in range(lattice.size) if place != lattice.bottom_at and not joined[place]]
 
 
 def _first_place(masks, mask):

@@ -1,5 +1,7 @@
 """What points 2 and 7 of the document say, word by word and slowly, to hold the lattices against."""
 
+from itertools import product
+
 
 def uppers(lattice, first, second):
     places = range(lattice.size)
@@ -39,6 +41,26 @@ def irreducibles(lattice):
         if place != bottom(lattice) and not joined:
             found.append(place)
     return found
+
+
+def fault(lattice):
+    """Point 3, rule by rule."""
+    places = range(lattice.size)
+
+    def spread(a, b, c):
+        spread_out = join(lattice, meet(lattice, a, b), meet(lattice, a, c))
+        return meet(lattice, a, join(lattice, b, c)) == spread_out
+
+    rules = (
+        ("order", 2, lambda a, b: a == b or not (lattice.within_at(a, b) and lattice.within_at(b, a))),
+        ("join", 2, lambda a, b: join(lattice, a, b) is not None),
+        ("meet", 2, lambda a, b: meet(lattice, a, b) is not None),
+        ("spread", 3, spread))
+    for word, many, holds in rules:
+        for row in product(places, repeat=many):
+            if not holds(*row):
+                return word, tuple(lattice.name_at(place) for place in row)
+    return None
 
 
 def names(lattice):

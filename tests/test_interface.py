@@ -1,16 +1,19 @@
-"""The interface of stage 1, and what can be counted of the rules for the files of the package."""
+"""The interface, and what can be counted of the rules for the files of the package."""
 
 import ast
 import unittest
 from pathlib import Path
 
-from latticewish import errors, families, lattices
+from latticewish import combined, errors, families, faults, labels, lattices
 
 METHODS = ("within_at", "join_at", "meet_at", "name_at", "at_name", "irreducibles")
 PACKAGE = Path(lattices.__file__).parent
 MADE = (
     (lattices, "OrderLattice", (["a"], [])), (families, "ChainLattice", (1,)),
-    (families, "SetLattice", (1,)), (families, "DownLattice", (["a"], [])))
+    (families, "SetLattice", (1,)), (families, "DownLattice", (["a"], [])),
+    (combined, "PairLattice", (families.ChainLattice(1), families.ChainLattice(2))),
+    (combined, "TurnedLattice", (families.ChainLattice(2),)))
+FUNCTIONS = ((faults, "first_fault"), (labels, "read_lattice"))
 
 
 class TestInterface(unittest.TestCase):
@@ -25,12 +28,22 @@ class TestInterface(unittest.TestCase):
         for word in ("LatticeError", "NameMissing", "BadLattice", "UnknownValue"):
             self.assertEqual(getattr(errors, word).__module__, errors.__name__)
 
+    def test_each_function_stands_in_its_file(self):
+        for module, word in FUNCTIONS:
+            self.assertEqual(getattr(module, word).__module__, module.__name__)
+
     def test_attributes_are_set_at_once(self):
         for module, word, told in MADE:
             made = getattr(module, word)(*told)
             self.assertIsInstance(made, lattices.Lattice)
             for attribute in ("label", "size", "bottom_at", "top_at"):
                 self.assertIn(attribute, vars(made), word)
+
+    def test_attributes_of_lattices_made_of_lattices(self):
+        two, three = families.ChainLattice(2), families.ChainLattice(3)
+        self.assertIs(vars(combined.PairLattice(two, three))["left"], two)
+        self.assertIs(vars(combined.PairLattice(two, three))["right"], three)
+        self.assertIs(vars(combined.TurnedLattice(two))["inner"], two)
 
 
 class TestFiles(unittest.TestCase):

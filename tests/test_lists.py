@@ -2,13 +2,24 @@
 
 import unittest
 
+from latticewish.combined import PairLattice, TurnedLattice
 from latticewish.errors import BadLattice, UnknownValue
 from latticewish.families import ChainLattice, DownLattice, SetLattice
+from latticewish.faults import first_fault
+from latticewish.labels import read_lattice
 from latticewish.lattices import OrderLattice
 from tests.definitions import names
 
 NAMES = ["a", "b", "c"]
 PAIRS = [("a", "b"), ("a", "c"), ("a", "a")]
+
+
+def several():
+    """A lattice of each class, each with at least one irreducible value."""
+    first = OrderLattice(["o", "a"], [("o", "a")])
+    second = DownLattice(NAMES, PAIRS)
+    return (ChainLattice(4), SetLattice(2), second, first, PairLattice(first, second), TurnedLattice(second),
+            read_lattice("(pair (turned (chain 2)) (sets 1))"))
 
 
 def everything(lattice):
@@ -60,8 +71,7 @@ class TestArguments(unittest.TestCase):
 
 class TestAnswers(unittest.TestCase):
     def test_returned_list_is_the_callers(self):
-        for lattice in (ChainLattice(4), SetLattice(2), DownLattice(NAMES, PAIRS),
-                        OrderLattice(["o", "a"], [("o", "a")])):
+        for lattice in several():
             before = everything(lattice)
             self.assertIsInstance(lattice.irreducibles(), list)
             answer = lattice.irreducibles()
@@ -72,12 +82,34 @@ class TestAnswers(unittest.TestCase):
             self.assertEqual(everything(lattice), before)
 
     def test_asking_changes_nothing(self):
-        for lattice in (ChainLattice(4), SetLattice(2), DownLattice(NAMES, PAIRS),
-                        OrderLattice(["o", "a"], [("o", "a")])):
+        for lattice in several():
             before = everything(lattice)
             with self.assertRaises(UnknownValue):
                 lattice.at_name("nobody")
+            self.assertIsNone(first_fault(lattice))
             self.assertEqual(everything(lattice), before)
+
+    def test_lattices_inside_stay(self):
+        left, right = OrderLattice(NAMES, PAIRS), ChainLattice(3)
+        before = everything(left), everything(right)
+        made = PairLattice(left, right), TurnedLattice(left), TurnedLattice(PairLattice(right, left))
+        for lattice in made:
+            everything(lattice)
+            first_fault(lattice)
+        self.assertEqual((everything(left), everything(right)), before)
+        first = [everything(lattice) for lattice in made]
+        left.irreducibles().append(9)
+        right.irreducibles().clear()
+        self.assertEqual([everything(lattice) for lattice in made], first)
+
+    def test_lists_of_a_lattice_inside_changed_afterwards(self):
+        told, pairs = list(NAMES), list(PAIRS)
+        inner = OrderLattice(told, pairs)
+        made = PairLattice(inner, ChainLattice(2)), TurnedLattice(inner)
+        before = [everything(lattice) for lattice in made]
+        told.clear()
+        pairs.append(("c", "b"))
+        self.assertEqual([everything(lattice) for lattice in made], before)
 
 
 if __name__ == "__main__":

@@ -6,26 +6,13 @@ from itertools import product
 from latticewish.errors import BadLattice, UnknownValue
 from latticewish.lattices import Lattice, OrderLattice
 from tests.definitions import check_as_defined, check_regular, irreducibles, names
+from tests.samples import diamond, pentagon, three_beside
 
 SIXTEEN = [f"n{k}" for k in range(16)]
 
 
 def chain_pairs(row):
     return list(zip(row, row[1:]))
-
-
-def diamond():
-    return OrderLattice(["lo", "a", "b", "hi"], [("lo", "a"), ("lo", "b"), ("a", "hi"), ("b", "hi")])
-
-
-def three_beside():
-    """Five values, three of them beside one another: joins and meets, but no spread."""
-    pairs = [("o", "a"), ("o", "b"), ("o", "c"), ("a", "t"), ("b", "t"), ("c", "t")]
-    return OrderLattice(["o", "a", "b", "c", "t"], pairs)
-
-
-def pentagon():
-    return OrderLattice(["o", "a", "b", "c", "t"], [("o", "a"), ("a", "b"), ("b", "t"), ("o", "c"), ("c", "t")])
 
 
 class TestRegular(unittest.TestCase):
