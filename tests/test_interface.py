@@ -4,7 +4,7 @@ import ast
 import unittest
 from pathlib import Path
 
-from latticewish import combined, errors, families, faults, labels, lattices
+from latticewish import combined, errors, families, faults, formulas, labels, lattices, reader, truths, writer
 
 METHODS = ("within_at", "join_at", "meet_at", "name_at", "at_name", "irreducibles")
 PACKAGE = Path(lattices.__file__).parent
@@ -13,7 +13,11 @@ MADE = (
     (families, "SetLattice", (1,)), (families, "DownLattice", (["a"], [])),
     (combined, "PairLattice", (families.ChainLattice(1), families.ChainLattice(2))),
     (combined, "TurnedLattice", (families.ChainLattice(2),)))
-FUNCTIONS = ((faults, "first_fault"), (labels, "read_lattice"))
+FUNCTIONS = (
+    (faults, "first_fault"), (labels, "read_lattice"), (formulas, "free_names"), (formulas, "dual"),
+    (formulas, "unfolded"), (formulas, "simpler"), (reader, "read_formula"), (writer, "write_formula"))
+VALUE_METHODS = (
+    "__or__", "__and__", "__le__", "__lt__", "__eq__", "__str__", "implies", "pieces", "named", "bottom", "top")
 
 
 class TestInterface(unittest.TestCase):
@@ -44,6 +48,16 @@ class TestInterface(unittest.TestCase):
         self.assertIs(vars(combined.PairLattice(two, three))["left"], two)
         self.assertIs(vars(combined.PairLattice(two, three))["right"], three)
         self.assertIs(vars(combined.TurnedLattice(two))["inner"], two)
+
+    def test_values(self):
+        self.assertEqual(truths.Value.__module__, truths.__name__)
+        for method in VALUE_METHODS:
+            self.assertIn(method, vars(truths.Value))
+        self.assertIsInstance(vars(truths.Value)["pieces"], property)
+        for method in ("named", "bottom", "top"):
+            self.assertIsInstance(vars(truths.Value)[method], classmethod)
+        lattice = families.ChainLattice(3)
+        self.assertEqual(vars(truths.Value(lattice, 2)), {"lattice": lattice, "place": 2, "name": "2"})
 
 
 class TestFiles(unittest.TestCase):

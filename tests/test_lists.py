@@ -26,7 +26,7 @@ def everything(lattice):
     places = range(lattice.size)
     return (
         lattice.size, lattice.label, lattice.bottom_at, lattice.top_at, names(lattice),
-        [lattice.at_name(name) for name in names(lattice)], lattice.irreducibles(),
+        [lattice.at_name(name) for name in names(lattice)], list(lattice.irreducibles()),
         [(lattice.within_at(a, b), lattice.join_at(a, b), lattice.meet_at(a, b)) for a in places for b in places])
 
 
