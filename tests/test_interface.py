@@ -4,7 +4,8 @@ import ast
 import unittest
 from pathlib import Path
 
-from latticewish import combined, errors, families, faults, formulas, labels, lattices, reader, truths, writer
+from latticewish import combined, errors, evaluation, families, faults, formulas, judging, labels, lattices, reader
+from latticewish import systems, truths, writer
 
 METHODS = ("within_at", "join_at", "meet_at", "name_at", "at_name", "irreducibles")
 PACKAGE = Path(lattices.__file__).parent
@@ -15,7 +16,8 @@ MADE = (
     (combined, "TurnedLattice", (families.ChainLattice(2),)))
 FUNCTIONS = (
     (faults, "first_fault"), (labels, "read_lattice"), (formulas, "free_names"), (formulas, "dual"),
-    (formulas, "unfolded"), (formulas, "simpler"), (reader, "read_formula"), (writer, "write_formula"))
+    (formulas, "unfolded"), (formulas, "simpler"), (reader, "read_formula"), (writer, "write_formula"),
+    (evaluation, "values"), (evaluation, "value_at"), (evaluation, "rounds"), (judging, "judge_paper"))
 VALUE_METHODS = (
     "__or__", "__and__", "__le__", "__lt__", "__eq__", "__str__", "implies", "pieces", "named", "bottom", "top")
 
@@ -58,6 +60,13 @@ class TestInterface(unittest.TestCase):
             self.assertIsInstance(vars(truths.Value)[method], classmethod)
         lattice = families.ChainLattice(3)
         self.assertEqual(vars(truths.Value(lattice, 2)), {"lattice": lattice, "place": 2, "name": "2"})
+
+    def test_systems(self):
+        self.assertEqual(systems.System.__module__, systems.__name__)
+        for method in ("states", "marks", "arrows", "mark_at", "arrows_from"):
+            self.assertIn(method, vars(systems.System))
+        lattice = families.ChainLattice(3)
+        self.assertIs(vars(systems.System(lattice, [], [], []))["lattice"], lattice)
 
 
 class TestFiles(unittest.TestCase):
