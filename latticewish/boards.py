@@ -1,17 +1,16 @@
 """The values at all states as one integer, so that and, or, some and all are worked out at all states at once.
 
-Each state has as many bits as the lattice has irreducible values; a bit is set if its irreducible value lies within
-the value at the state. In a regular lattice this tells the value, the bits of a join are | of the bits of both values,
-and those of a meet are &.
+Each state has a bit for each of some irreducible values; it is set if the irreducible value lies within the value at
+the state. In a regular lattice the bits of a join are | of the bits of both values, those of a meet are &, and the bits
+for all irreducible values tell the value.
 """
 
 
 class Board:
     """A system whose values are written as such integers."""
 
-    def __init__(self, system):
+    def __init__(self, system, pieces):
         lattice = system.lattice
-        pieces = lattice.irreducibles()
         self._lattice = lattice
         self._masks = [_mask_of(lattice, pieces, place) for place in range(lattice.size)]
         self._places = {mask: place for place, mask in enumerate(self._masks)}
@@ -51,9 +50,13 @@ class Board:
         """The values of (all a), from those of a: all but what leads along an arrow to where a has it not."""
         return self.full ^ _led_back(self._not_lacking, self.full ^ bits)
 
+    def mask_at(self, bits, state):
+        """The bits at the state alone."""
+        return bits >> self._shifts[state] & self._piece_bits
+
     def place_at(self, bits, state):
-        """The place of the value that the bits have at the state."""
-        return self._places[bits >> self._shifts[state] & self._piece_bits]
+        """The place of the value at the state; only for a board of all irreducible values."""
+        return self._places[self.mask_at(bits, state)]
 
 
 def _mask_of(lattice, pieces, place):

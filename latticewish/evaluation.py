@@ -11,7 +11,7 @@ from latticewish.working import Working
 def values(system, formula):
     """For each state the name of the formula's value; UnknownValue, UnboundName."""
     check_formula(system.lattice, formula, ())
-    board = Board(system)
+    board = Board(system, system.lattice.irreducibles())
     bits = Working(board).bits(spots_of(formula)[0])
     return {state: system.lattice.name_at(board.place_at(bits, state)) for state in system.states()}
 
@@ -27,6 +27,6 @@ def rounds(system, formula):
     check_formula(system.lattice, formula, ())
     if formula[0] not in BINDERS:
         return 0
-    working = Working(Board(system))
+    working = Working(Board(system, system.lattice.irreducibles()))
     working.bits(spots_of(formula)[0])
     return working.changes

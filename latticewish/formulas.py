@@ -65,18 +65,18 @@ def unfolded(formula):
     """The part of a closed least or most, with the whole in the places of its name; others unchanged."""
     if formula[0] not in BINDERS:
         return formula
-    return replaced(formula[2], formula[1], formula)
+    return replaced(formula[2], {formula[1]: formula})
 
 
-def replaced(formula, name, closed):
-    """The formula with the closed formula in each place of the name that is not bound inside."""
+def replaced(formula, closed):
+    """The formula with closed formulas, told by their names, in the places of these names that are not bound."""
     if formula[0] == "name":
-        return closed if formula[1] == name else formula
-    if formula[0] in BINDERS and formula[1] == name:
-        return formula
+        return closed.get(formula[1], formula)
+    if formula[0] in BINDERS:
+        closed = {name: closed[name] for name in closed if name != formula[1]}
     parts = []
     for part in parts_of(formula):
-        parts.append(replaced(part, name, closed))
+        parts.append(replaced(part, closed))
     return with_parts(formula, parts)
 
 

@@ -5,8 +5,8 @@ from latticewish.spots import spots_of
 
 # Where each side chooses among the next positions.
 CHOOSES = {"yes": ("or", "some"), "no": ("and", "all")}
-# The binder at whose names the ranks of each side have to fall.
-_FALLING = {"yes": "least", "no": "most"}
+# The binder at whose names the ranks of each side have to fall, since going on through them for ever is lost for it.
+FALLING = {"yes": "least", "no": "most"}
 _ENDS = ("true", "false", "value", "mark")
 
 
@@ -47,11 +47,6 @@ def ranks_fall(side, spot, before, behind):
     if spot.word != "name":
         return behind[:len(before)] <= before
     count = spot.level + 1
-    if must_fall(side, spot):
+    if spot.around[spot.level].word == FALLING[side]:
         return behind[:count] < before[:count]
     return behind[:count] <= before[:count]
-
-
-def must_fall(side, spot):
-    """Whether the ranks have to become less at the name, since going through it for ever is lost for the side."""
-    return spot.around[spot.level].word == _FALLING[side]

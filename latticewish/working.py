@@ -28,16 +28,23 @@ class Working:
             self._closed[spot] = self._worked_out(spot)
         return self._closed[spot]
 
-    def bits_of_all(self, row):
-        """The list of the values of all spots of a formula, while each name has its fixed point."""
+    def context(self, spot):
+        """The tuple of the present values on which the spot's values depend."""
+        return tuple([self._now[level] for level in spot.needs])
+
+    def rounds_of(self, spot):
+        """The list of the values of each round of a least or most, while the names around it have the present ones."""
         found = []
-        for spot in row:
-            bits = self.bits(spot)
-            if spot.word in BINDERS:
-                # The spots inside come next in the row. What is worked out for them changes only names inside them.
-                self._now[spot.level] = bits
-            found.append(bits)
+        following = self._first_round(spot)
+        while not found or following != found[-1]:
+            found.append(following)
+            self.set_name(spot, following)
+            following = self.bits(spot.parts[0])
         return found
+
+    def set_name(self, spot, bits):
+        """Gives the name of a least or most present values, until it is worked out again."""
+        self._now[spot.level] = bits
 
     def _worked_out(self, spot):
         word = spot.word
@@ -63,19 +70,22 @@ class Working:
         return self._board.full if spot.word == "true" else 0
 
     def _fixed_point(self, spot):
-        around = tuple([self._now[level] for level in spot.needs])
+        around = self.context(spot)
         bits = self._start(spot, around)
         changes = 0
-        self._now[spot.level] = bits
+        self.set_name(spot, bits)
         following = self.bits(spot.parts[0])
         while following != bits:
             changes += 1
             bits = following
-            self._now[spot.level] = bits
+            self.set_name(spot, bits)
             following = self.bits(spot.parts[0])
         self.changes = changes
         self._keep(spot, around, bits)
         return bits
+
+    def _first_round(self, spot):
+        return 0 if spot.word == "least" else self._board.full
 
     def _start(self, spot, around):
         """Where the rounds begin: at the bottom or top, or at earlier answers on the way from there.
@@ -85,7 +95,7 @@ class Working:
         of a most, with the order turned.
         """
         least = spot.word == "least"
-        bits = 0 if least else self._board.full
+        bits = self._first_round(spot)
         for told, answer in self._answers.get(spot, []):
             if least and _within(told, around):
                 bits |= answer

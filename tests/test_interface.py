@@ -4,8 +4,8 @@ import ast
 import unittest
 from pathlib import Path
 
-from latticewish import combined, errors, evaluation, families, faults, formulas, judging, labels, lattices, reader
-from latticewish import systems, truths, writer
+from latticewish import combined, comparing, errors, evaluation, families, faults, formulas, judging, labels, lattices
+from latticewish import maps, papers, reader, systems, truths, workshop, writer
 
 METHODS = ("within_at", "join_at", "meet_at", "name_at", "at_name", "irreducibles")
 PACKAGE = Path(lattices.__file__).parent
@@ -17,7 +17,9 @@ MADE = (
 FUNCTIONS = (
     (faults, "first_fault"), (labels, "read_lattice"), (formulas, "free_names"), (formulas, "dual"),
     (formulas, "unfolded"), (formulas, "simpler"), (reader, "read_formula"), (writer, "write_formula"),
-    (evaluation, "values"), (evaluation, "value_at"), (evaluation, "rounds"), (judging, "judge_paper"))
+    (evaluation, "values"), (evaluation, "value_at"), (evaluation, "rounds"), (judging, "judge_paper"),
+    (papers, "paper_of"), (comparing, "below"), (comparing, "alike"), (comparing, "matched"), (comparing, "degree"),
+    (comparing, "groups"), (comparing, "folded"), (maps, "carried"), (maps, "turned"), (maps, "carried_formula"))
 VALUE_METHODS = (
     "__or__", "__and__", "__le__", "__lt__", "__eq__", "__str__", "implies", "pieces", "named", "bottom", "top")
 
@@ -67,6 +69,25 @@ class TestInterface(unittest.TestCase):
             self.assertIn(method, vars(systems.System))
         lattice = families.ChainLattice(3)
         self.assertIs(vars(systems.System(lattice, [], [], []))["lattice"], lattice)
+
+    def test_maps(self):
+        self.assertEqual(maps.LatticeMap.__module__, maps.__name__)
+        for method in ("image", "fault", "__call__", "__mul__", "__eq__"):
+            self.assertIn(method, vars(maps.LatticeMap))
+        for method in ("same", "cut"):
+            self.assertIsInstance(vars(maps.LatticeMap)[method], classmethod)
+        two, three = families.ChainLattice(2), families.ChainLattice(3)
+        made = maps.LatticeMap(two, three, ["0", "2"])
+        self.assertIs(vars(made)["source"], two)
+        self.assertIs(vars(made)["target"], three)
+
+    def test_workshop(self):
+        self.assertEqual(workshop.Workshop.__module__, workshop.__name__)
+        for method in ("state", "mark", "arrow", "remove", "__getitem__", "__setitem__", "__contains__", "__len__",
+                       "names", "formula", "drop", "system", "value", "wish", "broken", "attempt"):
+            self.assertIn(method, vars(workshop.Workshop))
+        lattice = families.ChainLattice(3)
+        self.assertIs(vars(workshop.Workshop(lattice))["lattice"], lattice)
 
 
 class TestFiles(unittest.TestCase):
