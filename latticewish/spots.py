@@ -15,11 +15,13 @@ class Spot:
         self.place = place
         # The spots of the binders around this one, the outermost first.
         self.around = list(around)
+        # How many binders stand around this spot; for a name, around the binder that it means.
         self.level = _level_of(self.told, around) if self.word == "name" else len(around)
         inside = self.around + [self] if self.word in BINDERS else self.around
         self.parts = []
         for number, part in enumerate(parts_of(formula)):
             self.parts.append(Spot(part, place + (number,), inside))
+        # The levels of the binders around this spot that are meant by names in it.
         self.needs = _needs_of(self)
 
 
@@ -29,7 +31,7 @@ def _level_of(name, around):
 
 
 def _needs_of(spot):
-    """The ascending list of the levels of the binders around the spot that names in it mean."""
+    """The levels in ascending order."""
     if spot.word == "name":
         return [spot.level]
     found = [level for part in spot.parts for level in part.needs]

@@ -86,11 +86,7 @@ class Workshop:
     def formula(self, name):
         """The closed formula: those of the mentioned formulas are put in the places of their names; UnknownFormula."""
         self._check_formula(name)
-        closed = {}
-        # The row tells each formula before those that mention it.
-        for known in self._formulas:
-            closed[known] = replaced(self._formulas[known], closed)
-        return closed[name]
+        return self._closed_formulas()[name]
 
     def drop(self, name):
         """Drops a formula and its wish; UnknownFormula, InUse if another formula mentions it."""
@@ -124,7 +120,15 @@ class Workshop:
     def broken(self, state):
         """The list of the names of the formulas whose values at the state do not have their wishes; UnknownState."""
         self._check_state(state)
-        return [name for name in self._formulas if name in self._wishes and not self._is_met(name, state)]
+        system = self.system()
+        closed = self._closed_formulas()
+        names = []
+        for name in self._formulas:
+            if name in self._wishes:
+                wished = Value.named(self.lattice, self._wishes[name])
+                if not wished <= value_at(system, closed[name], state):
+                    names.append(name)
+        return names
 
     def attempt(self, action):
         """Calls action with the workshop. If an error leaves it, the workshop is afterwards as it was before."""
@@ -148,8 +152,13 @@ class Workshop:
                 self._wishes = wishes
         return answer
 
-    def _is_met(self, name, state):
-        return Value.named(self.lattice, self._wishes[name]) <= self.value(name, state)
+    def _closed_formulas(self):
+        """The closed formulas, by their names."""
+        closed = {}
+        # Each formula stands behind those that it mentions.
+        for name in self._formulas:
+            closed[name] = replaced(self._formulas[name], closed)
+        return closed
 
     def _earlier(self, name):
         """The tuple of the names of the formulas that stand, or would stand, before this one."""
